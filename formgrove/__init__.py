@@ -1,0 +1,1 @@
+"""Formgrove: documents of tags within tags, and forms for them."""
