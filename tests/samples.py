@@ -48,3 +48,22 @@ def spelled(grove):
 def written(grove):
     """The text of a grove."""
     return " ".join(tag + ("(" + written(within) + ")" if within else "") for tag, within in grove)
+
+
+def is_of(form, kind, grove):
+    """Whether a grove is of a kind."""
+    if not grove:
+        return kind in form[2]
+    tag, within = grove[0]
+    return any(is_of(form, inner, within) and is_of(form, rest, grove[1:])
+               for above, word, inner, rest in form[3] if (above, word) == (kind, tag))
+
+
+def random_parts(chance, many, tags, count):
+    """What a form is made of: at most `many` kinds, and `count` rules, perhaps with doubles."""
+    kinds = chance.randrange(1, many + 1)
+    starts = [chance.randrange(kinds) for _ in range(chance.randrange(3))]
+    ends = [chance.randrange(kinds) for _ in range(chance.randrange(3))]
+    rules = [(chance.randrange(kinds), chance.choice(tags), chance.randrange(kinds), chance.randrange(kinds))
+             for _ in range(chance.randrange(count + 1))]
+    return kinds, starts, ends, rules
