@@ -67,3 +67,92 @@ def random_parts(chance, many, tags, count):
     rules = [(chance.randrange(kinds), chance.choice(tags), chance.randrange(kinds), chance.randrange(kinds))
              for _ in range(chance.randrange(count + 1))]
     return kinds, starts, ends, rules
+
+
+def full(level, tag="a"):
+    """A grove of 2 ** level - 1 tags: one tag, with the same of the level below within it and behind it."""
+    grove = ()
+    for _ in range(level):
+        grove = ((tag, grove),) + grove
+    return grove
+
+
+def of_count(count):
+    """A form whose only start, the last kind, has just one grove, of so many tags (at most 511); and that grove."""
+    rules = [(kind, "a", kind - 1, kind - 1) for kind in range(1, 9)]
+    kind = 9
+    grove = ()
+    rest = 0
+    left = count
+    while left:
+        level = max(number for number in range(9) if 2 ** number <= left)
+        rules.append((kind, "a", level, rest))
+        grove = (("a", full(level)),) + grove
+        left -= 2 ** level
+        rest = kind
+        kind += 1
+    return (kind, (rest,), (0,), tuple(sorted(rules))), grove
+
+
+NIL = ("nil",)
+
+
+def random_expr(chance, levels, names, inner_names):
+    """An expression at most so deep; outside of tags it uses the one names, within them the others."""
+    labels = ["nil", "name", "tag", "tag", "turn", "turn", "or", "or", "many", "some", "maybe"]
+    label = "tag" if levels == 2 and chance.random() < 0.7 else chance.choice(labels)
+    if levels == 1 or label in ("nil", "name"):
+        return ("name", chance.choice(names)) if names and chance.random() < 0.7 else NIL
+    if label == "tag":
+        return ("tag", chance.choice(["a", "b"]), random_expr(chance, levels - 1, inner_names, inner_names))
+    if label in ("turn", "or"):
+        return (label, tuple(random_expr(chance, levels - 1, names, inner_names)
+                             for _ in range(chance.choice([2, 2, 3]))))
+    return (label, random_expr(chance, levels - 1, names, inner_names))
+
+
+def random_book(chance, levels):
+    """A book of three pairs without a ring: outside of tags each name uses later ones alone."""
+    names = ["A", "BB", "C"]
+    return tuple((name, random_expr(chance, levels, names[number + 1:], names)) for number, name in enumerate(names))
+
+
+def told_groves(names, expr, most):
+    """All groves of at most so many tags that are as an expression tells, made part by part."""
+    label = expr[0]
+    if label == "nil":
+        return {()}
+    if label == "tag":
+        return {((expr[1], within),) for within in told_groves(names, expr[2], most - 1)} if most else set()
+    if label == "name":
+        return told_groves(names, names[expr[1]], most)
+    if label == "turn":
+        found = {()}
+        for part in expr[1]:
+            found = beside(found, told_groves(names, part, most), most)
+        return found
+    if label == "or":
+        return set().union(*[told_groves(names, part, most) for part in expr[1]])
+    part = told_groves(names, expr[1], most)
+    if label == "maybe":
+        return part | {()}
+    found = set(part)
+    for _ in range(most):
+        found |= beside(found, part, most)
+    return found | {()} if label == "many" else found
+
+
+def beside(ones, others, most):
+    """Each of the ones with each of the others behind it, of at most so many tags."""
+    return {one + other for one in ones for other in others if len(spelled(one + other)) <= 2 * most}
+
+
+def fitting(form, groves):
+    """Those of some groves that fit a form."""
+    return [grove for grove in groves if any(is_of(form, start, grove) for start in form[1])]
+
+
+def tag_names(count):
+    """So many unlike tags."""
+    letters = "abcdefghijklmnopqrstuvwxyz"
+    return [letters[number // 26] + letters[number % 26] for number in range(count)]

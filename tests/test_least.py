@@ -4,34 +4,10 @@ import unittest
 from formgrove.errors import TooBig
 from formgrove.forms import form
 from formgrove.least import fewest, least, least_of
-from samples import flat, groves_up_to, is_of, nested, random_parts, spelled
+from samples import flat, full, groves_up_to, is_of, nested, of_count, random_parts, spelled
 
 # Kind k has the one grove of 2**k - 1 tags: a tag with one of the kind below within, and one behind.
 DOUBLES = form(64, [63], [0], [(kind, "a", kind - 1, kind - 1) for kind in range(1, 64)])
-
-
-def full(level, tag="a"):
-    grove = ()
-    for _ in range(level):
-        grove = ((tag, grove),) + grove
-    return grove
-
-
-def of_count(count):
-    """A form whose only start, the last kind, has just one grove, of so many tags (at most 511)."""
-    rules = [(kind, "a", kind - 1, kind - 1) for kind in range(1, 9)]
-    kind = 9
-    grove = ()
-    rest = 0
-    left = count
-    while left:
-        level = max(number for number in range(9) if 2 ** number <= left)
-        rules.append((kind, "a", level, rest))
-        grove = (("a", full(level)),) + grove
-        left -= 2 ** level
-        rest = kind
-        kind += 1
-    return form(kind, [rest], [0], rules), grove
 
 
 def key(grove):
