@@ -4,8 +4,12 @@ from formgrove.words import words_of
 
 
 def rank(grove):
-    """What puts groves in order: fewer tags first, of as many the words as lists compare."""
-    words = words_of(grove)
+    """What puts groves in order."""
+    return rank_of_words(words_of(grove))
+
+
+def rank_of_words(words):
+    """What puts lists of words in order: fewer words first, of as many the first as lists compare."""
     return (len(words), words)
 
 

@@ -3,6 +3,7 @@
 from formgrove.errors import TooBig
 from formgrove.forms import live_kinds
 from formgrove.least import least
+from formgrove.order import rank_of_words
 from formgrove.words import words_of
 
 MOST_WORDS = 600
@@ -109,11 +110,6 @@ class Reader:
             if lists[inner]:
                 found[inner] = ["/"] + min(lists[inner], key=rank_of_words)
         return found
-
-
-def rank_of_words(words):
-    """What puts lists of words in order: fewer words first, of as many the first one."""
-    return (len(words), words)
 
 
 def quickest(level, behind):

@@ -156,3 +156,16 @@ def tag_names(count):
     """So many unlike tags."""
     letters = "abcdefghijklmnopqrstuvwxyz"
     return [letters[number // 26] + letters[number % 26] for number in range(count)]
+
+
+def lively_form(chance, many, tags, count):
+    """A form of at most `many` kinds that some grove fits, with about `count` rules."""
+    while True:
+        kinds = chance.randrange(2, many + 1)
+        starts = {chance.randrange(kinds) for _ in range(chance.choice([1, 1, 2]))}
+        ends = {chance.randrange(kinds) for _ in range(chance.choice([1, 1, 2]))}
+        rules = {(chance.randrange(kinds), chance.choice(tags), chance.randrange(kinds), chance.randrange(kinds))
+                 for _ in range(chance.randrange(count // 2, count + 1))}
+        made = (kinds, tuple(sorted(starts)), tuple(sorted(ends)), tuple(sorted(rules)))
+        if len(fitting(made, groves_up_to(2, tags))) > 1:
+            return made
