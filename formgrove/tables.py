@@ -97,6 +97,11 @@ def holds(form, measure, rows):
     return True
 
 
+def unwanted(form, measure, rows):
+    """The groves of the table of a form and a measure that fit the form and whose value isn't wanted."""
+    return [grove for kind, value, grove in rows if kind in form[1] and not measure.good(value)]
+
+
 def chosen(form, measure):
     """The form with those of a form's groves whose value is wanted; refused where the table is, TooMany as a form."""
     growth = grown(form, measure)

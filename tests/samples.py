@@ -169,3 +169,82 @@ def lively_form(chance, many, tags, count):
         made = (kinds, tuple(sorted(starts)), tuple(sorted(ends)), tuple(sorted(rules)))
         if len(fitting(made, groves_up_to(2, tags))) > 1:
             return made
+
+
+def become(changer, grove, mode=0):
+    """What comes of a grove in a mode."""
+    rules = {(above, tag): parts for above, tag, parts in changer[1]}
+    made = ()
+    for tag, within in grove:
+        if (mode, tag) in rules:
+            made += come_of(changer, rules[(mode, tag)], within)
+        else:
+            made += ((tag, become(changer, within, mode)),)
+    return made
+
+
+def come_of(changer, parts, within):
+    """What parts tell of a tag with a grove within."""
+    made = ()
+    for part in parts:
+        if part[0] == "kids":
+            made += become(changer, within, part[1])
+        else:
+            made += ((part[1], come_of(changer, part[2], within)),)
+    return made
+
+
+def random_parts_of_rule(chance, modes, tags, levels):
+    """At most three parts, each at most so deep."""
+    parts = []
+    for _ in range(chance.choice([0, 1, 1, 2, 3])):
+        if levels == 1 or chance.random() < 0.4:
+            parts.append(("kids", chance.randrange(modes)))
+        else:
+            parts.append(("tag", chance.choice(tags), random_parts_of_rule(chance, modes, tags, levels - 1)))
+    return tuple(parts)
+
+
+def random_changer(chance, modes, tags, levels=3):
+    """A changer of just so many modes, with a rule for about half of the modes and tags."""
+    rules = [(mode, tag, random_parts_of_rule(chance, modes, tags, levels))
+             for mode in range(modes) for tag in sorted(tags) if chance.random() < 0.5]
+    return (modes, tuple(rules))
+
+
+def leads(form, first, last, grove):
+    """Whether a row leads from one kind to another."""
+    if not grove:
+        return first == last
+    tag, within = grove[0]
+    return any(is_of(form, inner, within) and leads(form, rest, last, grove[1:])
+               for kind, word, inner, rest in form[3] if (kind, word) == (first, tag))
+
+
+def variants(row, place, most, tags):
+    """All changes of a row that begins at a place, of a price of at most `most`, that put and name by some tags:
+    tuples (price, changes, grove)."""
+    found = []
+    for count in range(most + 1):
+        for put in groves_of_size(count, tags):
+            ahead = [("put", place, tree) for tree in put]
+            found += [(count + price, ahead + changes, put + grove)
+                      for price, changes, grove in unput_variants(row, place, most - count, tags)]
+    return found
+
+
+def unput_variants(row, place, most, tags):
+    """Those of the changes of a row that put nothing at its first place."""
+    if not row:
+        return [(0, [], ())]
+    tag, within = row[0]
+    size = len(spelled(row[:1])) // 2
+    firsts = []
+    if size <= most:
+        firsts.append((size, [("cut", place)], ()))
+    for price, changes, grove in variants(within, place + 1, most, tags):
+        firsts.append((price, changes, ((tag, grove),)))
+        if price < most:
+            firsts += [(1 + price, [("name", place, other)] + changes, ((other, grove),)) for other in tags]
+    return [(one + other, changes + more, tree + grove) for one, changes, tree in firsts
+            for other, more, grove in variants(row[1:], place + 2 * size, most - one, tags)]
