@@ -1,5 +1,6 @@
 """The joints of expressions, and the forms of books."""
 
+from formgrove.books import read
 from formgrove.errors import TooMany
 from formgrove.exprs import parts_of
 from formgrove.forms import MOST_KINDS, sorted_form
@@ -104,6 +105,11 @@ def form_of(book):
         finals.extend(ends_of_row(begins[row], told))
         rules.extend(rules_of_row(begins, begins[row], told))
     return sorted_form(many, [begins[book[0][1]]], finals, rules)
+
+
+def form_told(text):
+    """The form of the book that is written as a text; refused as the book is, or as its form is."""
+    return form_of(read(text))
 
 
 def rows_of(book):

@@ -145,6 +145,11 @@ def changed(changer, grove, mode=0):
     """What comes of a grove in a mode; TooBig where it would have more than 300 tags or be more than 100 deep."""
     words = words_of(grove)
     bounds = come_of(changer, words, mode, Bounds())
-    if bounds[0] > MOST_TAGS or bounds[1] > DEEPEST_GROVE:
-        raise TooBig("a changed grove of too many tags, or too deep")
+    refuse_great(bounds[0], bounds[1])
     return come_of(changer, words, mode, Groves())
+
+
+def refuse_great(tags, deep):
+    """TooBig where a grove of so many tags that is so deep isn't to be told."""
+    if tags > MOST_TAGS or deep > DEEPEST_GROVE:
+        raise TooBig(f"a grove of {tags} tags that is {deep} deep")

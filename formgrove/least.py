@@ -11,15 +11,20 @@ def fewest(form):
     counts = [None] * form[0]
     for end in form[2]:
         counts[end] = 0
+    lower(form[3], counts, counts)
+    return counts
+
+
+def lower(rules, inners, counts):
+    """Lower counts, one for each kind, until no rule tells fewer: one, its inner's among the inners, its rest's."""
     fallen = True
     while fallen:
         fallen = False
-        for kind, tag, inner, rest in form[3]:
-            count = count_above(counts[inner], counts[rest])
+        for kind, tag, inner, rest in rules:
+            count = count_above(inners[inner], counts[rest])
             if count is not None and (counts[kind] is None or count < counts[kind]):
                 counts[kind] = count
                 fallen = True
-    return counts
 
 
 def count_above(inner, rest):

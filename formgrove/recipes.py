@@ -30,7 +30,11 @@ def shown_part(part):
 
 def read(text):
     """The changer that is written as the text; NoRecipe where none is."""
-    source = Source(text)
+    return take_changer(Source(text))
+
+
+def take_changer(source):
+    """Read a changer, up to the end of the text."""
     modes = take_number(source, 1, MOST_MODES)
     rules = []
     while source.skips("; "):

@@ -45,6 +45,19 @@ def spelled(grove):
     return words
 
 
+def plain_grove(words):
+    """The grove that has the words."""
+    rows = [[]]
+    for word in words:
+        if word == "/":
+            within = tuple(rows.pop())
+            rows[-1][-1] = (rows[-1][-1], within)
+        else:
+            rows[-1].append(word)
+            rows.append([])
+    return tuple(rows[0])
+
+
 def written(grove):
     """The text of a grove."""
     return " ".join(tag + ("(" + written(within) + ")" if within else "") for tag, within in grove)
@@ -248,3 +261,23 @@ def unput_variants(row, place, most, tags):
             firsts += [(1 + price, [("name", place, other)] + changes, ((other, grove),)) for other in tags]
     return [(one + other, changes + more, tree + grove) for one, changes, tree in firsts
             for other, more, grove in variants(row[1:], place + 2 * size, most - one, tags)]
+
+
+def kids_in(parts):
+    """How many kids there are in parts, at all depths together."""
+    return sum(1 if part[0] == "kids" else kids_in(part[2]) for part in parts)
+
+
+def random_straight(chance, modes, tags, levels=3):
+    """A changer of just so many modes whose rules use what is within at most once."""
+    made = random_changer(chance, modes, tags, levels)
+    return (modes, tuple(rule for rule in made[1] if kids_in(rule[2]) <= 1))
+
+
+def rests_of(row, place=0):
+    """For each place of a row that begins at a place, and the one behind it, the rest that begins there."""
+    found = {place: row}
+    if row:
+        found.update(rests_of(row[0][1], place + 1))
+        found.update(rests_of(row[1:], place + len(spelled(row[:1]))))
+    return found

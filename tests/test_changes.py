@@ -5,7 +5,7 @@ import unittest
 from formgrove.changes import distance, done, price
 from formgrove.errors import NoChange
 from formgrove.texts import read
-from samples import flat, groves_up_to, nested, spelled, variants
+from samples import flat, groves_up_to, nested, plain_grove, spelled, variants
 
 TAGS = ["a", "b"]
 
@@ -232,18 +232,6 @@ class Distance(unittest.TestCase):
             self.assertEqual(told, distance(other, one))
             self.assertLessEqual(told, (len(pair[0]) + len(pair[1])) // 2)
             self.assertGreaterEqual(told, abs(len(pair[0]) - len(pair[1])) // 2)
-
-
-def plain_grove(words):
-    rows = [[]]
-    for word in words:
-        if word == "/":
-            within = tuple(rows.pop())
-            rows[-1][-1] = (rows[-1][-1], within)
-        else:
-            rows[-1].append(word)
-            rows.append([])
-    return tuple(rows[0])
 
 
 if __name__ == "__main__":
